@@ -1,0 +1,1 @@
+"""Mannerports: ports joined by channels of told manners."""

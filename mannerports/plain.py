@@ -1,0 +1,12 @@
+"""What the kinds of plain things have in common."""
+
+
+def is_whole(thing):
+    """Whether it is a whole number."""
+    # Python counts truths among the ints; here they are no numbers.
+    return isinstance(thing, int) and not isinstance(thing, bool)
+
+
+def is_rising(numbers):
+    """Whether these whole numbers rise, each once."""
+    return all([low < high for low, high in zip(numbers, numbers[1:])])

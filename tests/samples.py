@@ -1,0 +1,88 @@
+"""Nets and odd things that several test files use."""
+
+import random
+
+PORTS = ("a", "b", "c", "d", "net", "end", "within", "both", "hid", "zz")
+
+# Plain things that are no PORT, no PART and no NET.
+ODD = (
+    None, True, False, 0, 1, -1, 10 ** 40 - 1, "", "both", "Both a b", "a b\n",
+    [], (), {}, [[]], ((),), {"a": 1}, {1: [None]}, [1, (), ()], (1, ()), (True, (), ()),
+    ("both",), ("both", "a"), ["both", "a", "b"], {"both": ("a", "b")}, (None, None, None),
+    ([], {}, []), ("net", "net", "net"), ({}, "a", "b"),
+)
+
+# One right part of each kind, of two things, with its ports as they stand in it.
+RIGHT_PARTS = (
+    (("both", "a", "b"), ("a", "b")),
+    (("loose", "b", "a"), ("b", "a")),
+    (("place", "a", "b", None), ("a", "b")),
+    (("place", "z", "b", 1), ("z", "b")),
+    (("last", "a", "b", None), ("a", "b")),
+    (("last", "abcdefgh", "b", 0), ("abcdefgh", "b")),
+    (("drain", "a", "b"), ("a", "b")),
+    (("either", "d", "c"), ("d", "c")),
+    (("only", "a", "b", ()), ("a", "b")),
+    (("only", "b", "a", (1,)), ("b", "a")),
+    (("only", "a", "b", (0, 1)), ("a", "b")),
+    (("copy", "m", ("z", "a")), ("m", "z", "a")),
+    (("copy", "a", ("b",)), ("a", "b")),
+    (("merge", ("z", "a"), "m"), ("z", "a", "m")),
+    (("merge", ("b",), "a"), ("b", "a")),
+    (("net", (2, (), ()), ()), ()),
+    (("net", (2, ("p", "q"), (("both", "q", "r"),)), ("z", "a")), ("z", "a")),
+)
+
+
+def many_ports(count):
+    """So many unlike ports."""
+    letters = "abcdefghijklmnopqrstuvwxyz"
+    return tuple("p" + letters[k // 26] + letters[k % 26] for k in range(count))
+
+
+def nested(deep, innermost=(1, (), ())):
+    """A net in which so many stand within one another, the innermost one told."""
+    net = innermost
+    for _ in range(deep - 1):
+        net = (1, (), (("net", net, ()),))
+    return net
+
+
+def some_parts(count):
+    """So many parts, none of them a net."""
+    return (("both", "a", "b"),) * count
+
+
+def random_ports(chance, count):
+    return tuple(chance.sample(PORTS, count))
+
+
+def random_part(chance, things, deep):
+    kinds = ["both", "loose", "drain", "either", "place", "last", "only", "copy", "merge", "net"]
+    word = chance.choice(kinds if deep < 4 else kinds[:-1])
+    a, b = random_ports(chance, 2)
+    if word in ("place", "last"):
+        return (word, a, b, chance.choice([None] + list(range(things))))
+    if word == "only":
+        return (word, a, b, tuple(sorted(chance.sample(range(things), chance.randint(0, things)))))
+    first, *others = random_ports(chance, chance.randint(2, 10))
+    if word == "copy":
+        return (word, first, tuple(others))
+    if word == "merge":
+        return (word, tuple(others), first)
+    if word == "net":
+        inner = random_net(chance, things, deep + 1)
+        return (word, inner, random_ports(chance, len(inner[1])))
+    return (word, a, b)
+
+
+def random_net(chance, things=None, deep=1):
+    things = things or chance.randint(1, 3)
+    parts = tuple(random_part(chance, things, deep) for _ in range(chance.randint(0, 4)))
+    return (things, random_ports(chance, chance.randint(0, 6)), parts)
+
+
+def random_nets(count):
+    """So many nets, the same ones each time."""
+    chance = random.Random(12)
+    return [random_net(chance) for _ in range(count)]

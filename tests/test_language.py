@@ -1,0 +1,142 @@
+"""Looks at the package's files for what ../shared/LANGUAGE.md bars and a simple look can find."""
+
+import ast
+import builtins
+import os
+import re
+import unittest
+
+FOLDER = os.path.join(os.path.dirname(os.path.dirname(os.path.abspath(__file__))), "mannerports")
+
+NODES = set("""
+Module Expr Constant ImportFrom alias FunctionDef ClassDef arguments arg Assign AugAssign AnnAssign If While For Return
+Break Continue Pass Raise Assert Delete Try ExceptHandler Call keyword Name Attribute Subscript Slice Tuple List Dict
+Set ListComp DictComp SetComp comprehension BinOp UnaryOp BoolOp Compare IfExp Lambda JoinedStr FormattedValue Starred
+Load Store Del Add Sub Mult FloorDiv Mod Pow BitAnd BitOr BitXor LShift RShift USub Not And Or Invert
+Eq NotEq Lt LtE Gt GtE In NotIn Is IsNot
+""".split())
+
+BUILTINS = set("""
+len range enumerate zip min max sum abs sorted reversed int str bool bytes list tuple dict set frozenset isinstance ord
+repr any all divmod Exception ValueError TypeError KeyError IndexError LookupError ZeroDivisionError ArithmeticError
+OverflowError RuntimeError NotImplementedError AttributeError StopIteration
+""".split())
+
+METHODS = set("""
+append clear copy count endswith extend find get index insert isalnum isalpha isdigit islower isspace isupper items join
+keys ljust lower lstrip partition pop remove replace reverse rfind rjust rpartition rsplit rstrip setdefault split
+splitlines startswith strip update upper values zfill bit_length sort add discard
+""".split())
+
+BARRED_WORDS = re.compile(
+    r"\b(type|typing|typing_extensions|enum|Enum|IntEnum|StrEnum|Flag|IntFlag|Generic|Protocol|ABC|ABCMeta|namedtuple"
+    r"|NamedTuple|TypedDict|TYPE_CHECKING|abstractmethod)\b|dataclass|overload|contextmanager"
+)
+BARRED_NAMES = {"register", "mro", "elements", "open", "input", "version_info", "with_traceback", "add_note", "format"}
+
+
+def package_files():
+    names = sorted(name for name in os.listdir(FOLDER) if name != "__pycache__")
+    return {name: read(name) for name in names}
+
+
+def read(name):
+    with open(os.path.join(FOLDER, name), encoding="utf-8") as file:
+        return file.read()
+
+
+def bound_names(tree):
+    for node in ast.walk(tree):
+        if isinstance(node, (ast.FunctionDef, ast.ClassDef)):
+            yield node.name
+        elif isinstance(node, ast.arg):
+            yield node.arg
+        elif isinstance(node, ast.Name) and isinstance(node.ctx, ast.Store):
+            yield node.id
+
+
+class LanguageTest(unittest.TestCase):
+    @classmethod
+    def setUpClass(cls):
+        cls.files = package_files()
+        cls.trees = {name: ast.parse(text) for name, text in cls.files.items() if name.endswith(".py")}
+
+    def walked(self):
+        for name, tree in self.trees.items():
+            for node in ast.walk(tree):
+                yield f"{name}:{getattr(node, 'lineno', 0)}", node
+
+    def test_files(self):
+        for name in self.files:
+            self.assertRegex(name, r"^([a-z][a-z0-9_]*|__init__|__main__)\.py$")
+
+    def test_signs_and_sizes(self):
+        for name, text in self.files.items():
+            lines = text.split("\n")
+            self.assertLessEqual(len(lines), 400, name)
+            for number, line in enumerate(lines, 1):
+                self.assertLessEqual(len(line), 120, f"{name}:{number}")
+                self.assertRegex(line, r"^[ -~]*$", f"{name}:{number}")
+                self.assertIsNone(BARRED_WORDS.search(line), f"{name}:{number}")
+
+    def test_statements_and_expressions(self):
+        for place, node in self.walked():
+            self.assertIn(type(node).__name__, NODES, place)
+            if isinstance(node, ast.FunctionDef):
+                self.assertLessEqual(node.end_lineno - node.lineno + 1, 40, place)
+                self.assertEqual((node.decorator_list, node.args.vararg, node.args.kwarg), ([], None, None), place)
+                self.assertEqual(node.args.posonlyargs, [], place)
+            if isinstance(node, ast.ClassDef):
+                self.assertLessEqual(len(node.bases), 1, place)
+            if isinstance(node, (ast.For, ast.While)):
+                self.assertEqual(node.orelse, [], place)
+            if isinstance(node, ast.Constant):
+                self.assertNotIsInstance(node.value, float, place)
+                self.assertNotIn("%", str(node.value), place)
+
+    def test_imports(self):
+        for name, tree in self.trees.items():
+            for node in ast.walk(tree):
+                if isinstance(node, ast.ImportFrom):
+                    self.assertTrue(node.level == 0 and node.module.startswith("mannerports."), name)
+                    source = self.trees[node.module.split(".")[1] + ".py"]
+                    defined = [each for statement in source.body for each in bound_names(statement)]
+                    for alias in node.names:
+                        self.assertIn(alias.name, defined, name)
+
+    def test_module_level(self):
+        kinds = (ast.Expr, ast.ImportFrom, ast.FunctionDef, ast.ClassDef, ast.Assign)
+        for name, tree in self.trees.items():
+            for statement in tree.body:
+                self.assertIsInstance(statement, kinds, name)
+                if isinstance(statement, ast.Expr):
+                    self.assertIsInstance(statement.value, ast.Constant, name)
+
+    def test_names(self):
+        for name, tree in self.trees.items():
+            known = set(bound_names(tree)) | BUILTINS
+            known |= {alias.name for node in ast.walk(tree) if isinstance(node, ast.ImportFrom) for alias in node.names}
+            for bound in bound_names(tree):
+                if bound != "__init__":
+                    self.assertFalse(bound.startswith("_") or bound in BARRED_NAMES or bound in dir(builtins), bound)
+            for node in ast.walk(tree):
+                if isinstance(node, ast.Name):
+                    self.assertIn(node.id, known, name)
+
+    def test_methods_and_attributes(self):
+        methods, attributes = set(), set()
+        for place, node in self.walked():
+            if isinstance(node, ast.ClassDef):
+                methods |= {each.name for each in node.body if isinstance(each, ast.FunctionDef)}
+            if isinstance(node, ast.Attribute) and isinstance(node.ctx, ast.Store):
+                attributes.add(node.attr)
+        self.assertEqual(methods & attributes, set())
+        for place, node in self.walked():
+            if isinstance(node, ast.Call) and isinstance(node.func, ast.Attribute):
+                self.assertIn(node.func.attr, methods | METHODS, place)
+            elif isinstance(node, ast.Attribute):
+                self.assertIn(node.attr, methods | METHODS | attributes, place)
+
+
+if __name__ == "__main__":
+    unittest.main()
