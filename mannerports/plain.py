@@ -7,6 +7,6 @@ def is_whole(thing):
     return isinstance(thing, int) and not isinstance(thing, bool)
 
 
-def is_rising(numbers):
-    """Whether these whole numbers rise, each once."""
-    return all([low < high for low, high in zip(numbers, numbers[1:])])
+def is_rising(things):
+    """Whether these, all whole numbers or all texts, rise, each once."""
+    return all([low < high for low, high in zip(things, things[1:])])

@@ -86,3 +86,54 @@ def random_nets(count):
     """So many nets, the same ones each time."""
     chance = random.Random(12)
     return [random_net(chance) for _ in range(count)]
+
+
+def random_flat_part(chance, things, ports, most_ends=3):
+    """A part, no net within, with ports among the told ones, at least two."""
+    word = chance.choice(["both", "loose", "drain", "either", "place", "last", "only", "copy", "merge"])
+    a, b = chance.sample(ports, 2)
+    if word in ("place", "last"):
+        return (word, a, b, chance.choice([None] + list(range(things))))
+    if word == "only":
+        return (word, a, b, tuple(sorted(chance.sample(range(things), chance.randint(0, things)))))
+    first, *others = chance.sample(ports, chance.randint(2, min(len(ports), most_ends + 1)))
+    if word == "copy":
+        return (word, first, tuple(others))
+    if word == "merge":
+        return (word, tuple(others), first)
+    return (word, a, b)
+
+
+def random_flat(chance, ports, most_parts=5, most_seen=3, things=None):
+    """A flat net with ports among the told ones."""
+    things = things or chance.randint(1, 2)
+    parts = tuple(random_flat_part(chance, things, ports) for _ in range(chance.randint(0, most_parts)))
+    return (things, tuple(chance.sample(ports, chance.randint(0, most_seen))), parts)
+
+
+def ring(name, count, held=0):
+    """Places one behind the other, the last one ahead of the first, which alone holds something.
+
+    One thing goes round: as many stands come as there are places. The first place's way in is
+    called NAMEaa.
+    """
+    letters = "abcdefghijklmnopqrstuvwxyz"
+    ports = [name + letters[k // 26] + letters[k % 26] for k in range(count)]
+    return tuple(
+        ("place", ports[k], ports[(k + 1) % count], held if k == 0 else None) for k in range(count)
+    )
+
+
+def deep_list(levels):
+    """Lists within one another."""
+    thing = []
+    for _ in range(levels):
+        thing = [thing]
+    return thing
+
+
+def fed_ring(name, count):
+    """Places in a ring, all empty; what comes at NAMEin goes round for ever."""
+    parts = ring(name, count, None)
+    last = parts[-1]
+    return parts[:-1] + (last[:2] + (name + "back", None), ("merge", (name + "in", name + "back"), name + "aa"))

@@ -1,6 +1,7 @@
 import unittest
 
 from mannerports import errors
+from samples import deep_list
 
 FIELDS = {
     "NoNet": ("word", "path"),
@@ -14,13 +15,6 @@ FIELDS = {
     "NoTable": ("word",),
 }
 OF_A_TEXT = ("NoBack", "NoRow")
-
-
-def deep_list(levels):
-    thing = []
-    for _ in range(levels):
-        thing = [thing]
-    return thing
 
 
 class ErrorsTest(unittest.TestCase):

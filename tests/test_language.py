@@ -123,6 +123,27 @@ class LanguageTest(unittest.TestCase):
                 if isinstance(node, ast.Name):
                     self.assertIn(node.id, known, name)
 
+    def test_local_names_are_no_imports_and_no_classes(self):
+        for name, tree in self.trees.items():
+            taken = [alias.name for node in ast.walk(tree) if isinstance(node, ast.ImportFrom) for alias in node.names]
+            taken += [node.name for node in tree.body if isinstance(node, ast.ClassDef)]
+            self.assertEqual(len(set(taken)), len(taken), name)
+            for node in ast.walk(tree):
+                if isinstance(node, ast.FunctionDef):
+                    inside = [bound for each in [node.args] + node.body for bound in bound_names(each)]
+                    self.assertEqual(set(inside) & set(taken), set(), f"{name}:{node.lineno}")
+
+    def test_no_two_files_import_from_each_other(self):
+        above = {}
+        for name, tree in self.trees.items():
+            modules = [node.module for node in ast.walk(tree) if isinstance(node, ast.ImportFrom)]
+            above[name] = {module.split(".")[1] + ".py" for module in modules}
+        while above:
+            free = [name for name in above if not above[name] & set(above)]
+            self.assertTrue(free, sorted(above))
+            for name in free:
+                del above[name]
+
     def test_methods_and_attributes(self):
         methods, attributes = set(), set()
         for place, node in self.walked():
