@@ -66,6 +66,11 @@ def stand_behind(flat, stand, moment):
     ])
 
 
+def part_at(moment, ports):
+    """A moment's part of these ports."""
+    return tuple([pair for pair in moment if pair[0] in ports])
+
+
 def is_moment_of(things, ports, thing):
     """Whether any plain thing is a moment of these ports, of so many things."""
     # Rising is asked of ports alone: other things may be none that can be compared.

@@ -1,5 +1,7 @@
 """PORTs: what ports are called."""
 
+from mannerports.plain import is_rising
+
 SMALL_LETTERS = "abcdefghijklmnopqrstuvwxyz"
 MOST_LETTERS = 8
 
@@ -17,3 +19,8 @@ def are_unlike_ports(thing):
     if not isinstance(thing, tuple) or not all([is_port(port) for port in thing]):
         return False
     return len(set(thing)) == len(thing)
+
+
+def are_rising_ports(thing):
+    """Whether any plain thing is a rising tuple of PORTs, perhaps of none."""
+    return are_unlike_ports(thing) and is_rising(thing)

@@ -8,5 +8,5 @@ def is_whole(thing):
 
 
 def is_rising(things):
-    """Whether these, all whole numbers or all texts, rise, each once."""
+    """Whether these, of a kind that Python can sort, rise, each once."""
     return all([low < high for low, high in zip(things, things[1:])])

@@ -1,30 +1,20 @@
 """Rows and walks of flat nets: which stands come, and what is seen along the way."""
 
 from mannerports.choosing import Chooser
-from mannerports.errors import TooMany
-from mannerports.moments import MOST_MOMENTS, first_stand, helds_at, is_moment_of, stand_behind
-
-MOST_STANDS = 400
+from mannerports.meeting import MOST_STANDS, all_met
+from mannerports.moments import MOST_MOMENTS, first_stand, helds_at, is_moment_of, part_at, stand_behind
 
 
 def stands_met(flat):
     """All stands that come, as they come, or TooMany."""
-    chooser = Chooser(flat)
-    met = [first_stand(flat)]
-    known = {met[0]: True}
-    done = 0
-    while done < len(met):
-        stand = met[done]
-        for moment in chooser.moments(helds_at(flat, stand), MOST_MOMENTS):
-            behind = stand_behind(flat, stand, moment)
-            if behind not in known:
-                known[behind] = True
-                met.append(behind)
-        # Asked behind all moments of a stand: too many of these at one go ahead of too many stands.
-        if len(met) > MOST_STANDS:
-            raise TooMany("stands")
-        done += 1
+    met, steps = met_in(flat)
     return met
+
+
+def met_in(flat):
+    """All stands that come, and the steps between their numbers by what is seen, or TooMany."""
+    walker = Walker(flat)
+    return all_met(first_stand(flat), lambda stand: walker.moves(stand), MOST_STANDS)
 
 
 def after(flat, stands, moment):
@@ -34,11 +24,7 @@ def after(flat, stands, moment):
 
 def seen_next(flat, stands):
     """All moments of the seen ports that come from some stands, rising."""
-    chooser = Chooser(flat)
-    seen = []
-    for stand in stands:
-        seen.extend(chooser.seen_moments(helds_at(flat, stand)))
-    return sorted(set(seen))
+    return Walker(flat).seen_from(stands)
 
 
 def has_row(flat, row):
@@ -83,11 +69,30 @@ class Walker:
     def __init__(self, flat):
         self.flat = flat
         self.chooser = Chooser(flat)
+        self.known = {}
         self.gone = {}
+
+    def moves(self, stand):
+        """Of all moments that are let, rising, what is seen of each and the stand behind it, or TooMany."""
+        moments = self.chooser.moments(helds_at(self.flat, stand), MOST_MOMENTS)
+        return [(part_at(moment, self.flat[1]), stand_behind(self.flat, stand, moment)) for moment in moments]
+
+    def seen_from(self, stands):
+        """All moments of the seen ports that come from some stands, rising."""
+        seen = []
+        for stand in stands:
+            # Kept, as a watch comes to the same stands again and again.
+            if stand not in self.known:
+                self.known[stand] = self.chooser.seen_moments(helds_at(self.flat, stand))
+            seen.extend(self.known[stand])
+        return sorted(set(seen))
 
     def ways(self, stands, moment):
         """Each stand behind a moment, as they come, with a pair that leads to it: stand and moment."""
         ways = {}
+        # Asked ahead of what is kept: there True would be found as 1.
+        if not is_moment_of(self.flat[0], self.flat[1], moment):
+            return ways
         for stand in stands:
             for behind, whole in self.steps(stand, moment):
                 if behind not in ways:
@@ -103,9 +108,6 @@ class Walker:
 
     def steps_anew(self, stand, moment):
         """As steps, worked out."""
-        things, seen, parts = self.flat
-        if not is_moment_of(things, seen, moment):
-            return []
         behind = {}
         for whole in self.chooser.moments_seen_as(helds_at(self.flat, stand), moment):
             behind.setdefault(stand_behind(self.flat, stand, whole), whole)

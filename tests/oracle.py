@@ -77,12 +77,18 @@ def part_leads(part, state, things, moment):
     if part[0] != "net":
         table = allowed(part, state, things)
         return [table[own]] if own in table else []
+    return net_leads(part, state).get(own, [])
+
+
+@functools.lru_cache(maxsize=None)
+def net_leads(part, state):
+    """Of a net within, for each moment of its told ports to what its state can lead, a dict of lists."""
     told = dict(zip(part[1][1], part[2]))
-    found = []
+    found = {}
     for inner, behind in steps(part[1], state):
-        if tuple(sorted((told[port], x) for port, x in inner if port in told)) == own:
-            found.append(behind)
-    return found
+        own = tuple(sorted((told[port], x) for port, x in inner if port in told))
+        found.setdefault(own, []).append(behind)
+    return {own: list(dict.fromkeys(behind)) for own, behind in found.items()}
 
 
 @functools.lru_cache(maxsize=None)

@@ -111,6 +111,19 @@ def random_flat(chance, ports, most_parts=5, most_seen=3, things=None):
     return (things, tuple(chance.sample(ports, chance.randint(0, most_seen))), parts)
 
 
+def random_net_within(chance, deep, things):
+    """A net in which so many nets stand within one another, each of few ports."""
+    if deep == 1:
+        return random_flat(chance, "abc", 3, 2, things)
+    inner = random_net_within(chance, deep - 1, things)
+    parts = [("net", inner, tuple(chance.sample("abc", len(inner[1]))))]
+    parts += [random_flat_part(chance, things, "abc") for _ in range(chance.randint(0, 2))]
+    if chance.random() < 0.3:
+        parts.append(("net", inner, tuple(chance.sample("abc", len(inner[1])))))
+    chance.shuffle(parts)
+    return (things, tuple(chance.sample("abc", chance.randint(0, 3))), tuple(parts))
+
+
 def ring(name, count, held=0):
     """Places one behind the other, the last one ahead of the first, which alone holds something.
 
