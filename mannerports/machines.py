@@ -2,7 +2,7 @@
 
 from mannerports.names import are_rising_ports, is_port
 from mannerports.nets import is_held, is_things, is_told
-from mannerports.plain import is_rising, is_whole
+from mannerports.plain import is_below, is_rising, is_whole
 
 BOX_WORDS = ("box", "next")
 
@@ -89,7 +89,7 @@ def is_spot(boxes, thing):
     word, at = thing
     if word == "port":
         return is_port(at)
-    return word in BOX_WORDS and is_from_0(at) and at < boxes
+    return word in BOX_WORDS and is_below(boxes, at)
 
 
 def things_for(tie, held, passing):
@@ -97,10 +97,13 @@ def things_for(tie, held, passing):
 
     passing has the things that pass at ports; at a port that it hasn't any may pass.
     """
-    spots, told = tie
-    due = [held[at] for word, at in spots if word == "box"]
-    due.extend([passing[at] for word, at in spots if word == "port" and at in passing])
-    return [thing for thing in told if all([each == thing for each in due])]
+    spots, left = tie
+    for word, at in spots:
+        if word == "box":
+            left = [thing for thing in left if thing == held[at]]
+        elif word == "port" and at in passing:
+            left = [thing for thing in left if thing == passing[at]]
+    return left
 
 
 def doings(step, held, passing):
@@ -139,6 +142,14 @@ def stand_by(step, held, way):
             if word == "next":
                 behind[at] = thing
     return (step[3], tuple(behind))
+
+
+def steps_by_place(machine):
+    """For each place from which steps of a machine go these steps, a dict of lists."""
+    steps = {}
+    for step in machine[4]:
+        steps.setdefault(step[0], []).append(step)
+    return steps
 
 
 def moves_by(steps, stand):

@@ -2,7 +2,7 @@
 
 from mannerports.errors import NoNet
 from mannerports.names import are_unlike_ports
-from mannerports.plain import is_rising, is_whole
+from mannerports.plain import is_below, is_rising, is_whole
 
 MOST_THINGS = 3
 MOST_SEEN = 6
@@ -73,7 +73,7 @@ def hidden_in(net):
 
 def is_thing(things, thing):
     """Whether any plain thing is a THING of so many."""
-    return is_whole(thing) and 0 <= thing < things
+    return is_below(things, thing)
 
 
 def is_held(things, thing):

@@ -7,6 +7,11 @@ def is_whole(thing):
     return isinstance(thing, int) and not isinstance(thing, bool)
 
 
+def is_below(many, thing):
+    """Whether it is a whole number from 0 to below so many."""
+    return is_whole(thing) and 0 <= thing < many
+
+
 def is_rising(things):
     """Whether these, of a kind that Python can sort, rise, each once."""
     return all([low < high for low, high in zip(things, things[1:])])

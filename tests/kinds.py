@@ -123,3 +123,38 @@ def wide_machine(count, held=0):
         steps += [(0, ("i" + name,), (into,), 0), (0, ("o" + name,), (out,), 0)]
     ports = tuple(sorted(way + name for way in "io" for name in names))
     return (2, ports, count, (0, (held,) * count), tuple(steps))
+
+
+def random_moment(chance, ports, things=3):
+    passing = sorted(chance.sample(ports, chance.randint(0, min(2, len(ports)))))
+    return tuple((port, chance.randrange(things)) for port in passing)
+
+
+def random_table(chance, ports, many=4, most_steps=12, things=2):
+    """A table whose seen ports stand in any order."""
+    steps = set()
+    for _ in range(chance.randint(0, most_steps)):
+        steps.add((chance.randrange(many), random_moment(chance, ports, things), chance.randrange(many)))
+    return (tuple(chance.sample(ports, len(ports))), many, tuple(sorted(steps)))
+
+
+def round_table(port, count, many=None):
+    """A table that goes round so many stands, one with each thing 0 at a port, and may stay."""
+    steps = [(k, ((port, 0),), (k + 1) % count) for k in range(count)] + [(k, (), k) for k in range(count)]
+    return ((port,), many or count, tuple(sorted(steps)))
+
+
+def chain(places, channels, things=1, name="c"):
+    """A flat net of so many places in a row, then so many channels, its two ends seen."""
+    ports = [name + port for port in many_ports(places + channels + 1)]
+    parts = [("place", one, other, None) for one, other in zip(ports[:places], ports[1:])]
+    words = ("both", "loose", "copy", "merge")
+    for number, (one, other) in enumerate(zip(ports[places:], ports[places + 1:])):
+        word = words[number % len(words)]
+        if word == "copy":
+            parts.append((word, one, (other,)))
+        elif word == "merge":
+            parts.append((word, (one,), other))
+        else:
+            parts.append((word, one, other))
+    return (things, (ports[0], ports[-1]), tuple(parts))

@@ -121,6 +121,16 @@ def flat_steps(flat, stand):
     return [(moment, as_stand(flat, state)) for moment, state in steps(flat, whole_state(flat, stand))]
 
 
+def stands_by_words(flat):
+    """The stands that come, by the words of the document."""
+    met = [as_stand(flat, begin(flat))]
+    for stand in met:
+        for moment, behind in flat_steps(flat, stand):
+            if behind not in met:
+                met.append(behind)
+    return met
+
+
 def rows_up_to(net, length):
     """The rows of a net, flat or not, of at most so many moments, a set."""
     layer = {(): {begin(net)}}

@@ -150,3 +150,21 @@ def fed_ring(name, count):
     parts = ring(name, count, None)
     last = parts[-1]
     return parts[:-1] + (last[:2] + (name + "back", None), ("merge", (name + "in", name + "back"), name + "aa"))
+
+
+def fan_of_moments(name):
+    """A place with many moments at what it holds: its way out can go on in 4,096 ways."""
+    ends = tuple(name + port for port in many_ports(12))
+    parts = (("place", name + "i", name + "o", None), ("copy", name + "o", ends))
+    return parts + tuple(("loose", port, port + "x") for port in ends)
+
+
+def fan_of_stands(name):
+    """A place with few moments at what it holds, that lead to 512 stands more."""
+    ends = tuple(name + port for port in many_ports(9))
+    parts = (("place", name + "i", name + "o", None), ("copy", name + "o", ends))
+    fill = tuple(("loose", port, port + "x") for port in ends)
+    # Each place's way out is barred.
+    hold = tuple(("place", port + "x", port + "y", None) for port in ends)
+    bar = tuple(("only", port + "y", port + "z", ()) for port in ends)
+    return parts + fill + hold + bar

@@ -55,6 +55,11 @@ def bound_names(tree):
             yield node.id
 
 
+def called_name(node):
+    """The name of the function that a node calls, or None."""
+    return node.func.id if isinstance(node, ast.Call) and isinstance(node.func, ast.Name) else None
+
+
 class LanguageTest(unittest.TestCase):
     @classmethod
     def setUpClass(cls):
@@ -143,6 +148,44 @@ class LanguageTest(unittest.TestCase):
             self.assertTrue(free, sorted(above))
             for name in free:
                 del above[name]
+
+    def with_parents(self):
+        """Pairs of a node's place and the node, with what stands around it."""
+        for name, tree in self.trees.items():
+            for parent in ast.walk(tree):
+                for child in ast.iter_child_nodes(parent):
+                    yield f"{name}:{getattr(child, 'lineno', 0)}", child, parent
+
+    def test_sets_are_not_stored(self):
+        for place, node, parent in self.with_parents():
+            if isinstance(node, (ast.Set, ast.SetComp)) or called_name(node) in ("set", "frozenset"):
+                self.assertNotEqual(called_name(node), "frozenset", place)
+                right = called_name(parent) in ("sorted", "len") and not parent.keywords
+                self.assertTrue(right or isinstance(parent, ast.Compare), place)
+
+    def test_what_is_iterated_at_once(self):
+        ends = ("list", "tuple", "dict", "sorted", "sum", "any", "all", "enumerate", "zip", "bytes")
+        for place, node, parent in self.with_parents():
+            method = node.func.attr if isinstance(node, ast.Call) and isinstance(node.func, ast.Attribute) else None
+            if called_name(node) in ("zip", "enumerate", "reversed", "range") or method in ("items", "keys", "values"):
+                looped = isinstance(parent, (ast.For, ast.comprehension)) and parent.iter is node
+                alone = called_name(parent) in ("min", "max") and len(parent.args) == 1
+                self.assertTrue(looped or alone or called_name(parent) in ends, place)
+
+    def test_methods_are_called_where_they_stand(self):
+        methods = set()
+        for place, node in self.walked():
+            if isinstance(node, ast.ClassDef):
+                methods |= {each.name for each in node.body if isinstance(each, ast.FunctionDef)}
+        for place, node, parent in self.with_parents():
+            if isinstance(node, ast.Attribute) and node.attr in methods | METHODS:
+                self.assertTrue(isinstance(parent, ast.Call) and parent.func is node, place)
+
+    def test_is_with_none_and_truths_alone(self):
+        for place, node in self.walked():
+            if isinstance(node, ast.Compare) and any(isinstance(op, (ast.Is, ast.IsNot)) for op in node.ops):
+                for each in node.comparators:
+                    self.assertTrue(isinstance(each, ast.Constant) and each.value in (None, True, False), place)
 
     def test_methods_and_attributes(self):
         methods, attributes = set(), set()

@@ -7,24 +7,14 @@ from mannerports.flatting import flat_of
 from mannerports.moments import first_stand, moments_at
 from mannerports.nets import right_net
 from mannerports.walks import after, breaks, has_row, seen_next, stands_met, walk_for
-from oracle import every_moment, every_row, flat_steps, part_of, rows_up_to, walk_breaks
-from samples import fed_ring, many_ports, random_flat, random_flat_part, ring
+from oracle import every_moment, every_row, flat_steps, part_of, rows_up_to, stands_by_words, walk_breaks
+from samples import fan_of_moments, fan_of_stands, fed_ring, many_ports, random_flat, random_flat_part, ring
 
 # Two places one behind the other, the port between them hidden.
 QUEUE = (2, ("a", "b"), (("place", "a", "h", None), ("place", "h", "b", None)))
 
 # What comes at a goes to either place, unseen which; each has a seen way out.
 FORK = (1, ("a", "x", "y"), (("merge", ("h", "k"), "a"), ("place", "h", "x", None), ("place", "k", "y", None)))
-
-
-def stands_by_words(flat):
-    """The stands that come, by the words of the document."""
-    met = [first_stand(flat)]
-    for stand in met:
-        for moment, behind in flat_steps(flat, stand):
-            if behind not in met:
-                met.append(behind)
-    return met
 
 
 def after_by_words(flat, stands, moment):
@@ -39,24 +29,6 @@ def after_by_words(flat, stands, moment):
 def random_flats(seed, count, ports="abcd", most_parts=4):
     chance = random.Random(seed)
     return [random_flat(chance, ports, most_parts) for _ in range(count)]
-
-
-def fan_of_moments(name):
-    """A place with many moments at what it holds: its way out can go on in 4,096 ways."""
-    ends = tuple(name + port for port in many_ports(12))
-    parts = (("place", name + "i", name + "o", None), ("copy", name + "o", ends))
-    return parts + tuple(("loose", port, port + "x") for port in ends)
-
-
-def fan_of_stands(name):
-    """A place with few moments at what it holds, that lead to 512 stands more."""
-    ends = tuple(name + port for port in many_ports(9))
-    parts = (("place", name + "i", name + "o", None), ("copy", name + "o", ends))
-    fill = tuple(("loose", port, port + "x") for port in ends)
-    # Each place's way out is barred.
-    hold = tuple(("place", port + "x", port + "y", None) for port in ends)
-    bar = tuple(("only", port + "y", port + "z", ()) for port in ends)
-    return parts + fill + hold + bar
 
 
 class StandsMetTest(unittest.TestCase):
