@@ -2,7 +2,7 @@
 
 from mannerports.names import are_rising_ports, is_port
 from mannerports.nets import is_held, is_things, is_told
-from mannerports.plain import is_below, is_rising, is_whole
+from mannerports.plain import is_below, is_from_0, is_rising
 
 BOX_WORDS = ("box", "next")
 
@@ -37,11 +37,6 @@ def machine_has(machine, row):
                 behind[each] = True
         stands = list(behind)
     return len(stands) > 0
-
-
-def is_from_0(thing):
-    """Whether any plain thing is a whole number from 0 on."""
-    return is_whole(thing) and thing >= 0
 
 
 def is_begin(things, boxes, thing):

@@ -5,11 +5,11 @@ from mannerports.errors import TooMany
 MOST_STANDS = 400
 
 
-def all_met(begin, moves, most):
+def all_met(begin, moves, most, word="stands"):
     """A pair: all stands that come, as they come, and the steps between their numbers, rising.
 
     Of a stand, moves tells a list of pairs (label, stand behind it); a step is (from, label, to).
-    TooMany where more than most stands are there (None: no bound).
+    TooMany of this word where more than most stands are there (None: no bound).
     """
     met = [begin]
     numbers = {begin: 0}
@@ -23,6 +23,23 @@ def all_met(begin, moves, most):
             steps[(done, label, numbers[behind])] = True
         # Asked behind all moves of a stand: what moves refuses of it goes ahead of too many stands.
         if most is not None and len(met) > most:
-            raise TooMany("stands")
+            raise TooMany(word)
         done += 1
     return met, sorted(steps)
+
+
+def first_steps(steps):
+    """For each number but 0 the step by which it came first, of the steps that all_met tells."""
+    first = {}
+    for step in steps:
+        first.setdefault(step[2], step)
+    return first
+
+
+def way_to(first, number):
+    """The steps of a shortest way from 0 to a number, by the first steps."""
+    way = []
+    while number != 0:
+        way.append(first[number])
+        number = first[number][0]
+    return way[::-1]

@@ -1,12 +1,11 @@
 """Nets written as lines, and lines read as nets."""
 
 from mannerports.errors import NoText
+from mannerports.figures import number_by
 from mannerports.nets import HOLDING, MOST_DEEP, MOST_PARTS
 from mannerports.nets import is_flat_part, is_seen, is_things, ports_of
 
 NOTHING_HELD = "-"
-FIGURES = {"0": 0, "1": 1, "2": 2, "3": 3}
-NO_NUMBER = -1
 
 
 def net_lines(net):
@@ -45,11 +44,6 @@ def read_net(lines):
     if not reader.is_done():
         raise NoText(len(lines))
     return reader.begun[0].as_net()
-
-
-def number_by(word):
-    """The number that a word writes, else one that is no thing and no number of things."""
-    return FIGURES.get(word, NO_NUMBER)
 
 
 def held_by(word):

@@ -7,6 +7,11 @@ def is_whole(thing):
     return isinstance(thing, int) and not isinstance(thing, bool)
 
 
+def is_from_0(thing):
+    """Whether any plain thing is a whole number from 0 on."""
+    return is_whole(thing) and thing >= 0
+
+
 def is_below(many, thing):
     """Whether it is a whole number from 0 to below so many."""
     return is_whole(thing) and 0 <= thing < many

@@ -2,6 +2,10 @@
 
 import random
 
+from mannerports.errors import TooMany
+from mannerports.flatting import flat_of
+from mannerports.tabling import table_of
+
 PORTS = ("a", "b", "c", "d", "net", "end", "within", "both", "hid", "zz")
 
 # Plain things that are no PORT, no PART and no NET.
@@ -122,6 +126,17 @@ def random_net_within(chance, deep, things):
         parts.append(("net", inner, tuple(chance.sample("abc", len(inner[1])))))
     chance.shuffle(parts)
     return (things, tuple(chance.sample("abc", chance.randint(0, 3))), tuple(parts))
+
+
+def random_net_tabled(chance, deep, things):
+    """As random_net_within, one whose table is told."""
+    while True:
+        net = random_net_within(chance, deep, things)
+        try:
+            table_of(flat_of(net))
+            return net
+        except TooMany:
+            pass
 
 
 def ring(name, count, held=0):

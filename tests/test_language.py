@@ -53,6 +53,8 @@ def bound_names(tree):
             yield node.arg
         elif isinstance(node, ast.Name) and isinstance(node.ctx, ast.Store):
             yield node.id
+        elif isinstance(node, ast.ExceptHandler) and node.name:
+            yield node.name
 
 
 def called_name(node):
@@ -157,10 +159,19 @@ class LanguageTest(unittest.TestCase):
                     yield f"{name}:{getattr(child, 'lineno', 0)}", child, parent
 
     def test_sets_are_not_stored(self):
+        def is_set(node):
+            return isinstance(node, (ast.Set, ast.SetComp)) or called_name(node) in ("set", "frozenset")
+
+        def are_sets(node):
+            joined = isinstance(node, ast.BinOp) and isinstance(node.op, (ast.Sub, ast.BitAnd, ast.BitOr, ast.BitXor))
+            return are_sets(node.left) and are_sets(node.right) if joined else is_set(node)
+        around = {id(node): parent for place, node, parent in self.with_parents()}
         for place, node, parent in self.with_parents():
-            if isinstance(node, (ast.Set, ast.SetComp)) or called_name(node) in ("set", "frozenset"):
+            if is_set(node):
                 self.assertNotEqual(called_name(node), "frozenset", place)
-                right = called_name(parent) in ("sorted", "len") and not parent.keywords
+                while are_sets(parent):
+                    parent = around[id(parent)]
+                right = called_name(parent) in ("sorted", "len") and not parent.keywords and are_sets(parent.args[0])
                 self.assertTrue(right or isinstance(parent, ast.Compare), place)
 
     def test_what_is_iterated_at_once(self):
