@@ -1,7 +1,7 @@
 """Likeness: a paper that two tables have the same rows, or a shortest row that one alone has."""
 
 from mannerports.likechecker import check_same_ports
-from mannerports.meeting import all_met, first_steps, way_to
+from mannerports.meeting import all_met, first_steps, labels_of, way_to
 from mannerports.tables import BEGIN, Follower
 
 MOST_PAIRS = 2000
@@ -17,8 +17,7 @@ def likeness(one, other):
         alone = matcher.moments_of_one_alone(pair)
         # The first one met is nearest to the begin, so no shorter row parts the tables.
         if alone:
-            way = way_to(first_steps(steps), number)
-            return ("parted", tuple([moment for begin, moment, end in way]) + (alone[0],))
+            return ("parted", labels_of(way_to(first_steps(steps), number)) + (alone[0],))
     return ("alike", tuple(met))
 
 

@@ -43,3 +43,8 @@ def way_to(first, number):
         way.append(first[number])
         number = first[number][0]
     return way[::-1]
+
+
+def labels_of(way):
+    """The labels of the steps of a way, a tuple."""
+    return tuple([label for begin, label, end in way])

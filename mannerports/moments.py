@@ -4,7 +4,6 @@ from mannerports.choosing import Chooser
 from mannerports.errors import NoMoment
 from mannerports.manners import held_then, lets
 from mannerports.nets import HOLDING, is_held, is_thing, ports_in
-from mannerports.plain import is_rising
 
 MOST_MOMENTS = 2000
 
@@ -73,10 +72,16 @@ def part_at(moment, ports):
 
 def is_moment_of(things, ports, thing):
     """Whether any plain thing is a moment of these ports, of so many things."""
-    # Rising is asked of ports alone: other things may be none that can be compared.
-    if not isinstance(thing, tuple) or not all([is_passing(things, ports, pair) for pair in thing]):
+    if not isinstance(thing, tuple):
         return False
-    return is_rising([pair[0] for pair in thing])
+    # No port is called by less.
+    ahead = ""
+    for pair in thing:
+        # Rising is asked of ports alone: other things may be none that can be compared.
+        if not is_passing(things, ports, pair) or pair[0] <= ahead:
+            return False
+        ahead = pair[0]
+    return True
 
 
 def is_passing(things, ports, pair):
