@@ -119,6 +119,31 @@ class LanguageTest(unittest.TestCase):
                 if isinstance(statement, ast.Expr):
                     self.assertIsInstance(statement.value, ast.Constant, name)
 
+    def test_each_name_is_bound_once_at_module_level(self):
+        for name, tree in self.trees.items():
+            bound = []
+            for statement in tree.body:
+                if isinstance(statement, ast.ImportFrom):
+                    bound += [alias.asname or alias.name for alias in statement.names]
+                elif isinstance(statement, (ast.FunctionDef, ast.ClassDef)):
+                    bound.append(statement.name)
+                elif isinstance(statement, ast.Assign):
+                    self.assertEqual(len(statement.targets), 1, name)
+                    bound.append(statement.targets[0].id)
+            self.assertEqual(sorted(set(bound)), sorted(bound), name)
+
+    def test_no_two_lambdas_on_one_line(self):
+        places = [place for place, node in self.walked() if isinstance(node, ast.Lambda)]
+        self.assertEqual(sorted(set(places)), sorted(places))
+
+    def test_what_is_kept_at_module_level_is_only_read(self):
+        kept = {target.id for tree in self.trees.values() for statement in tree.body if isinstance(statement, ast.Assign)
+                for target in statement.targets if isinstance(statement.value, (ast.List, ast.Dict))}
+        for place, node, parent in self.with_parents():
+            if isinstance(node, ast.Name) and node.id in kept and isinstance(node.ctx, ast.Load):
+                read = isinstance(parent, ast.Subscript) and isinstance(parent.ctx, ast.Load) or isinstance(parent, ast.Compare)
+                self.assertTrue(read, place)
+
     def test_names(self):
         for name, tree in self.trees.items():
             known = set(bound_names(tree)) | BUILTINS
