@@ -55,6 +55,13 @@ class PartTest(unittest.TestCase):
             self.wrong(2, ("merge", ("b",), bad), ("merge", (bad,), "b"), ("merge", ("c", bad), "b"))
             self.wrong(2, ("net", (2, ("p",), ()), (bad,)))
 
+    def test_ports_called_like_words(self):
+        for word in TWO_PORTS:
+            self.right(2, (word, word, "b"), (word, "net", word))
+        for word, last in (("place", None), ("last", 0), ("only", ())):
+            self.right(2, (word, word, "b", last), (word, "both", word, last))
+        self.right(2, ("copy", "copy", ("merge",)), ("merge", ("merge", "net"), "copy"), ("net", (2, ("net",), ()), ("net",)))
+
     def test_a_port_twice(self):
         for word in TWO_PORTS:
             self.wrong(2, (word, "a", "a"))
